@@ -38,7 +38,8 @@ def variable_factor(model, variable):
     for at, setting in enumerate(settings([sizes[one] for one in heads])):
         told = rows[variable][at * states:(at + 1) * states]
         for worth in range(sizes[variable]):
-            cells[(*setting, worth)] = whole_numbers([row[worth] for row in told])
+            place = (*setting, worth)
+            cells[place] = whole_numbers([row[worth] for row in told])
     return Factor((*heads, variable), lots, cells)
 
 
