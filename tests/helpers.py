@@ -12,6 +12,8 @@ EIGHT = tuple("abcdefgh")
 PAIRS = tuple(combinations(range(8), 2))
 FLIPS = (PLAIN, (2, 2), (), ((((1, 3), (2, 3)),), (((1, 2), (1, 2)), ((1, 4), (3, 4)))))
 SEEN = ((0, 1, 2),)
+# Tian's rounds from all of it to h leave out one variable at a time, from g down to a, by the two rules in turns.
+LADDER = (EIGHT, ((0, 7), (1, 2), (2, 7), (3, 4), (4, 7), (5, 6), (6, 7)), ((0, 1), (1, 7), (2, 3), (3, 7), (4, 5), (5, 7)))
 
 
 def nested(depth, kind=tuple):

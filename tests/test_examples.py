@@ -2,8 +2,8 @@
 
 import unittest
 
-from causaleffects import errors, graphs, models, text
-from causaleffects.errors import InvalidText
+from causaleffects import errors, graphs, identify, models, rounds, text, twomodels, values
+from causaleffects.errors import Identified, InvalidText
 
 TEXT_SESSION = """
 >>> from causaleffects.graphs import children, hidden_lots, index_of, is_graph, is_lot_of, parents
@@ -29,6 +29,53 @@ MODELS_SESSION = """
 >>> [table(flips, (0, 1)), table(flips, (1,)), effect(flips, (0,), (1,)), is_positive(flips)]
 [((1, 6), (1, 6), (1, 6), (1, 2)), ((1, 2), (1, 2), (1, 4), (3, 4)), ((1, 2), (1, 2), (1, 4), (3, 4)), True]
 """
+ROUNDS_SESSION = """
+>>> from causaleffects.rounds import ancestors, districts, greatest_hedge, needed, needs, rounds
+>>> door = (("x", "m", "y"), ((0, 1), (1, 2)), ((0, 2),))
+>>> bow = (("x", "y"), ((0, 1),), ((0, 1),))
+>>> [ancestors(door, (0, 2), (2,)), districts(door, (0, 1, 2)), needed(door, (0,), (2,)), needs(door, (0,), (2,))]
+[(2,), ((0, 2), (1,)), (1, 2), ((1,), (2,))]
+>>> [rounds(door, (0, 1, 2), (2,)), rounds(bow, (0, 1), (1,)), greatest_hedge(bow, (0, 1), (1,)), greatest_hedge(door, (0, 1, 2), (1,))]
+[((0, 1, 2), (0, 2), (2,)), ((0, 1),), (0, 1), None]
+"""
+IDENTIFY_SESSION = """
+>>> from causaleffects.identify import derivation, formula, formula_along, helpful, is_derivation, is_identified
+>>> from causaleffects.identify import least_told, single_lots, stuck
+>>> seen, some = ((0, 1, 2),), ((0,), (1,), (2,), (0, 1, 2))
+>>> [is_identified(door, seen, (0,), (2,)), is_identified(bow, ((0, 1),), (0,), (1,)), stuck(bow, ((0,), (0, 1)), (0,), (1,))]
+[True, False, ((1,), ((0, 1),))]
+>>> way = ((0, ((0, 1, 2), (1,))), (0, ((0, 1, 2), (0, 2), (2,))))
+>>> [is_derivation(door, seen, (0,), (2,), way), is_derivation(door, seen, (0,), (2,), ((0, ((0, 1, 2), (1,))), (0, ((0, 1, 2), (2,)))))]
+[True, False]
+>>> [helpful(door, some, (0,), (2,)), least_told(door, some, (0,), (2,))]
+[(((1,), (1, 3)), ((2,), (2, 3))), ((1, 2), (3,))]
+>>> [single_lots(door, (0,), (2,)), single_lots(bow, (0,), (1,)), least_told(bow, ((0, 1),), (0,), (1,))]
+[((0, 1, 2), (1, 2)), ((1,),), ()]
+"""
+VALUES_SESSION = """
+>>> from causaleffects.values import told_effect, value_of
+>>> told = ((1, 4), (1, 12), (1, 12), (1, 12), (1, 12), (1, 12), (1, 12), (1, 4))
+>>> told_effect(door, (2, 2, 2), seen, (told,), (0,), (2,))
+((13, 24), (11, 24), (11, 24), (13, 24))
+>>> value_of(door, (2, 2, 2), seen, (told,), ("over", ("sum", (2,), ("told", 0)), ("sum", (1, 2), ("told", 0))))
+((2, 3), (2, 3), (1, 3), (1, 3), (1, 3), (1, 3), (2, 3), (2, 3))
+"""
+TWOMODELS_SESSION = """
+>>> from causaleffects.models import effect, is_positive, table
+>>> from causaleffects.twomodels import is_hedge, modes, two_models
+>>> plain = (("x", "y"), ((0, 1),), ())
+>>> flips = (plain, (2, 2), (), ((((1, 3), (2, 3)),), (((1, 2), (1, 2)), ((1, 4), (3, 4)))))
+>>> [table(flips, (0, 1)), table(flips, (1,)), effect(flips, (0,), (1,)), is_positive(flips)]
+[((1, 6), (1, 6), (1, 6), (1, 2)), ((1, 2), (1, 2), (1, 4), (3, 4)), ((1, 2), (1, 2), (1, 4), (3, 4)), True]
+>>> bow = (("x", "y"), ((0, 1),), ((0, 1),))
+>>> [is_hedge(bow, (1,), (0, 1), (0, 1)), is_hedge(plain, (1,), (0, 1), (0, 1)), modes(bow, (1,), ((0, 1),))]
+[True, False, (((0, 1), -1), ((1,), 1))]
+>>> one, two = two_models(bow, ((0, 1),), (0,), (1,))
+>>> [table(one, (0, 1)) == table(two, (0, 1)), is_positive(one), is_positive(two)]
+[True, True, True]
+>>> (effect(one, (0,), (1,)) == effect(two, (0,), (1,)))
+False
+"""
 LISTED = {
     errors: ("CausalError", "InvalidGraph", "InvalidName", "InvalidLot", "InvalidSizes", "InvalidModel", "InvalidAsked",
              "InvalidFormula", "TooMany", "InvalidLine", "NotWithin", "InvalidDerivation", "InvalidWeights", "NotBetween",
@@ -36,6 +83,11 @@ LISTED = {
     graphs: ("is_graph", "is_lot_of", "index_of", "parents", "children", "hidden_lots"),
     text: ("read_graph", "read_lot", "read_model", "read_formula", "show_graph", "show_lot", "show_model", "show_formula"),
     models: ("is_positive", "table", "effect"),
+    rounds: ("ancestors", "districts", "needed", "needs", "rounds", "greatest_hedge"),
+    identify: ("is_identified", "helpful", "derivation", "is_derivation", "formula", "formula_along", "stuck", "least_told",
+               "single_lots"),
+    values: ("value_of", "told_effect"),
+    twomodels: ("is_hedge", "modes", "two_models"),
 }
 
 
@@ -62,6 +114,23 @@ class Examples(unittest.TestCase):
         known = {}
         self.replay(MODELS_SESSION, known)
         self.assertIn("flips", known)
+
+    def test_rounds_identify_and_values(self):
+        # The sessions go on from module to module.
+        known = {}
+        self.replay(ROUNDS_SESSION, known)
+        self.assertEqual({"door", "bow"} - set(known), set())
+        self.replay(IDENTIFY_SESSION, known)
+        self.assertIn("way", known)
+        self.replay(VALUES_SESSION, known)
+        self.assertIn("told", known)
+
+    def test_two_models(self):
+        known = {}
+        self.replay(TWOMODELS_SESSION, known)
+        self.assertIn("two", known)
+        with self.assertRaises(Identified):
+            known["two_models"](known["bow"], ((0, 1), (1,)), (0,), (1,))
 
     def test_names_stand_where_they_are_listed(self):
         for module, names in LISTED.items():

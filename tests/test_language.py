@@ -1,6 +1,7 @@
 """Rules of the language that a look through the files of the package can show: L1, L2, L7, L10, L14."""
 
 import ast
+import builtins
 import pathlib
 import unittest
 
@@ -62,12 +63,23 @@ class Language(unittest.TestCase):
                     made |= {one.targets[0].id for one in inner if isinstance(one, ast.Assign)}
                     self.assertLessEqual(names, made, name)
 
-    def test_no_name_is_that_of_an_import_of_its_file(self):
+    def test_names(self):
+        # No name is that of an import of its file, nor that of a builtin.
         for name, text in files():
             imported = {one.name for node in nodes(text, ast.ImportFrom) for one in node.names}
             bound = {node.id for node in nodes(text, ast.Name) if isinstance(node.ctx, ast.Store)}
             bound |= {node.arg for node in nodes(text, ast.arg)}
             self.assertEqual(imported & bound, set(), name)
+            made = {node.name for node in nodes(text, ast.FunctionDef, ast.ClassDef)}
+            self.assertEqual((made | bound) & set(dir(builtins)) - {"__init__"}, set(), name)
+
+    def test_no_two_files_import_from_each_other(self):
+        heads = {name[:-3]: {node.module.partition(".")[2] for node in nodes(text, ast.ImportFrom)} for name, text in files()}
+        while heads:
+            free = [name for name, wanted in heads.items() if not wanted & set(heads)]
+            self.assertNotEqual(free, [], heads)
+            for name in free:
+                del heads[name]
 
     def test_no_floats_and_no_slash(self):
         for name, text in files():
