@@ -5,8 +5,7 @@ Nothing is checked here but what is_way is asked.
 
 from causaleffects.errors import NotIdentified
 from causaleffects.graphs import is_lot
-from causaleffects.lots import (is_ancestral, is_step, needed_districts, needed_lot, rounds_of, tells,
-                                without)
+from causaleffects.lots import is_ancestral, is_step, needed_districts, needed_lot, rounds_of, tells, without
 
 
 def helpful_rows(graph, told, deeds, asked):

@@ -1,6 +1,6 @@
 """Which effects told tables tell, by derivations and formulas ([C4], [C5], [C7])."""
 
-from causaleffects.derivations import (effect_formula, first_untold, formula_of_way, helpful_rows, is_way, some_way)
+from causaleffects.derivations import effect_formula, first_untold, formula_of_way, helpful_rows, is_way, some_way
 from causaleffects.errors import InvalidDerivation
 from causaleffects.formulas import need_asked, need_told
 from causaleffects.graphs import need_graph
