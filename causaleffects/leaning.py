@@ -8,7 +8,7 @@ from causaleffects.graphs import hidden_at, parents_at
 from causaleffects.lots import needed_lot, union
 from causaleffects.modelforms import MOST_CHANCES, MOST_SETTINGS, MOST_STATES, multiplied, settings
 from causaleffects.modes import chance_count, counted_modes, heirs_in, joined_modes, state_counts
-from causaleffects.ratios import ratio
+from causaleffects.ratios import ratio, times
 
 
 class Frame:
@@ -219,7 +219,7 @@ def sending_chances(frame, variable, ahead):
 
 def both_chances(leaning, sending):
     """The chances of a variable's values, told those of its bits."""
-    found = tuple([ratio(one[0] * other[0], one[1] * other[1]) for one in leaning for other in sending])
+    found = tuple([times(one, other) for one in leaning for other in sending])
     if len(found) == 1:
         return ((1, 2), (1, 2))
     return found

@@ -40,3 +40,13 @@ def total(ratios):
     for one in ratios:
         found = plus(found, one)
     return found
+
+
+def times(one, other):
+    """The product of two RATIOs."""
+    return ratio(one[0] * other[0], one[1] * other[1])
+
+
+def is_at_most(one, other):
+    """Whether a RATIO is not above another one."""
+    return one[0] * other[1] <= other[0] * one[1]

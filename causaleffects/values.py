@@ -6,7 +6,7 @@ from causaleffects.formulas import need_asked, need_formula, need_told
 from causaleffects.graphs import need_graph
 from causaleffects.modelforms import is_sizes, multiplied, settings
 from causaleffects.models import worths
-from causaleffects.ratios import is_chance, plus, ratio
+from causaleffects.ratios import is_chance, plus, ratio, times
 
 
 def value_of(graph, sizes, told, tables, formula):
@@ -96,7 +96,7 @@ def shape_value(sizes, tables, shape, found):
         return over_value(found[shape[1]], found[shape[2]])
     value = found[shape[1]]
     for at in shape[2:]:
-        value = tuple([ratio(one[0] * other[0], one[1] * other[1]) for one, other in zip(value, found[at])])
+        value = tuple([times(one, other) for one, other in zip(value, found[at])])
     return value
 
 

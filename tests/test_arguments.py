@@ -5,8 +5,9 @@ import inspect
 import unittest
 from itertools import combinations, product
 
-from causaleffects import errors, graphs, identify, models, rounds, text, twomodels, values
-from helpers import BOW, DOOR, EIGHT, FLIPS, PAIRS, SEEN, nested
+from causaleffects import (bounds, certificates, checker, desk, errors, graphs, identify, models, rounds, text, twomodels,
+                           values)
+from helpers import BOW, DOOR, EIGHT, FLIPS, PAIRS, PLAIN, SEEN, nested
 
 DEEP = nested(300)
 LIST = [["x"], [], []]
@@ -40,6 +41,19 @@ WAY = ((0, ((0, 1, 2), (1,))), (0, ((0, 1, 2), (0, 2), (2,))))
 VALUE = ("value", (None, WAY, ()))
 DERIVATION = (errors.InvalidDerivation, WAY, (None, (), DEEP, [1], WAY[:1]))
 ASK = (("graph", GRAPH), ("told", TOLD), ("deeds", LOT), ("asked", ASKED))
+BOW_ASK = (("graph", BOW_GRAPH), ("told", BOW_TOLD), ("deeds", TWO_LOT), ("asked", OTHER_LOT))
+ONE_LOT = (errors.InvalidGraph, BOW, (None, BOW[:2], LIST, DEEP, FLIPS, PLAIN, (("x", "y", "z"), (), ((0, 1), (1, 2)))))
+TWO_SIZES = (errors.InvalidSizes, (2, 2), (None, (2,), (2, 5), [2, 2], (2, True), DEEP, 4))
+BOW_ROW = ((1, 4), (1, 4), (1, 8), (3, 8))
+ZEROS = ((1, 2), (0, 1), (1, 4), (1, 4))
+BOW_TABLES = (errors.InvalidTables, (BOW_ROW,), ((None, None), ((), None), ([BOW_ROW], None), ((BOW_ROW,) * 2, None),
+                                                 ((ZEROS,), 0), ((None,), 0), ((BOW_ROW[1:],), 0), ((DEEP,), 0), (DEEP, 0)))
+QUESTION = (errors.InvalidAsked, ((0,), (1,), (1, 1)), (None, ((0,), (1,)), ((0,), (0,), (1, 1)), [(0,), (1,), (1, 1)], DEEP,
+                                                        ((0,), (1,), (1, 2)), ((0,), (1,), (True, 1)), 3))
+WEIGHTS = (errors.InvalidWeights, ((((0,), (0, 0)), (1, 4)), (((0,), (1, 0)), (1, 4)), (((1,), (0, 0)), (1, 8)),
+                                   (((1,), (0, 1)), (3, 8))), (None, (), DEEP, [1], ((((0,), (0, 0)), (1, 1)),), FLIPS))
+CHANCE = (errors.NotBetween, (1, 2), (None, (2, 4), (1, 4), (1, 1), DEEP, [1, 2], (True, 2), 0))
+BOUNDED = (("graph", ONE_LOT), ("sizes", TWO_SIZES), ("told", BOW_TOLD), ("tables", BOW_TABLES))
 
 CALLS = {
     graphs.index_of: (("graph", GRAPH), ("name", NAME)),
@@ -78,7 +92,20 @@ CALLS = {
                          ("asked", ASKED)),
     twomodels.is_hedge: (("graph", GRAPH), ("small", LOT), ("great", WHOLE_LOT), ("within", WHOLE_LOT)),
     twomodels.modes: (("graph", BOW_GRAPH), ("small", SMALL), ("hedges", HEDGES)),
-    twomodels.two_models: (("graph", BOW_GRAPH), ("told", BOW_TOLD), ("deeds", TWO_LOT), ("asked", OTHER_LOT)),
+    twomodels.two_models: BOW_ASK,
+    bounds.types: (("graph", ONE_LOT), ("sizes", TWO_SIZES)),
+    bounds.papers: BOUNDED + (("question", QUESTION),),
+    bounds.bounds: BOUNDED + (("question", QUESTION),),
+    bounds.between: BOUNDED + (("question", QUESTION), ("value", CHANCE)),
+    bounds.model_of: BOUNDED + (("weights", WEIGHTS),),
+    certificates.certify_identified: ASK,
+    certificates.certify_models: BOW_ASK,
+    certificates.certify_hedge: (("graph", GRAPH), ("lot", WHOLE_LOT), ("ends", ENDS)),
+    certificates.certify_formula: ASK,
+    certificates.certify_table: (("model", MODEL), ("lot", TWO_LOT)),
+    certificates.certify_effect: (("model", MODEL), ("deeds", TWO_LOT), ("asked", OTHER_LOT)),
+    certificates.certify_bounds: BOUNDED + (("question", QUESTION),),
+    certificates.certify_between: BOUNDED + (("question", QUESTION), ("value", CHANCE)),
 }
 # What each call is asked of a graph with as many names and hidden lots as can be, behind the graph.
 WHOLE = tuple(range(8))
@@ -93,7 +120,9 @@ GREAT = {
     values.value_of: ((2,) * 8, (WHOLE,), (((1, 256),) * 256,), ("told", 0)),
     values.told_effect: ((2,) * 8, (WHOLE,), (((1, 256),) * 256,), (), (7,)),
     twomodels.is_hedge: ((7,), WHOLE, WHOLE), twomodels.modes: ((7,), (WHOLE,)),
-    twomodels.two_models: ((WHOLE,), tuple(range(7)), (7,)),
+    twomodels.two_models: ((WHOLE,), tuple(range(7)), (7,)), certificates.certify_models: ((WHOLE,), tuple(range(7)), (7,)),
+    certificates.certify_identified: ((WHOLE,), (0,), (7,)), certificates.certify_hedge: (WHOLE, (7,)),
+    certificates.certify_formula: ((WHOLE,), (), (7,)),
 }
 
 
@@ -138,6 +167,10 @@ class Arguments(unittest.TestCase):
         for call, told in CALLS.items():
             self.assertEqual(list(inspect.signature(call).parameters), [name for name, _ in told], call)
         self.assertEqual(list(inspect.signature(graphs.is_graph).parameters), ["value"])
+        self.assertEqual(list(inspect.signature(checker.accepts).parameters), ["claim", "paper"])
+        self.assertEqual(list(inspect.signature(desk.Desk).parameters), [])
+        self.assertEqual(list(inspect.signature(desk.Desk().say).parameters), ["line"])
+        self.assertEqual(list(inspect.signature(desk.Desk().told).parameters), [])
 
     def test_right_ones(self):
         for call, told in CALLS.items():
@@ -158,7 +191,7 @@ class Arguments(unittest.TestCase):
                     self.check(wrong[0], call, [], {name: value for (name, _), value in zip(told, given)})
                     self.check(wrong[0], call, given[:1], {
                         name: value for (name, _), value in reversed(list(zip(told, given))[1:])})
-        self.assertGreater(tried, 8000)
+        self.assertGreater(tried, 14000)
 
     def test_the_greatest_graphs(self):
         # Eight names and 28 hidden lots are taken; one name or one lot more is not, whatever stands behind.

@@ -2,7 +2,8 @@
 
 import unittest
 
-from causaleffects import errors, graphs, identify, models, rounds, text, twomodels, values
+from causaleffects import (bounds, certificates, checker, desk, errors, graphs, identify, models, rounds, text, twomodels,
+                           values)
 from causaleffects.errors import Identified, InvalidText
 
 TEXT_SESSION = """
@@ -76,6 +77,42 @@ TWOMODELS_SESSION = """
 >>> (effect(one, (0,), (1,)) == effect(two, (0,), (1,)))
 False
 """
+BOUNDS_SESSION = """
+>>> from causaleffects.bounds import between, bounds, model_of, papers, types
+>>> from causaleffects.models import effect
+>>> both, whole = (((1, 4), (1, 4), (1, 8), (3, 8)),), ((0, 1),)
+>>> [len(types(bow, (2, 2))), types(bow, (2, 2))[:2], bounds(bow, (2, 2), whole, both, ((0,), (1,), (1, 1)))]
+[8, (((0,), (0, 0)), ((0,), (0, 1))), ((3, 8), (7, 8))]
+>>> some = ((((0,), (0, 0)), (1, 8)), (((0,), (0, 1)), (1, 8)), (((0,), (1, 0)), (1, 4)), (((1,), (0, 0)), (1, 8)), (((1,), (0, 1)), (3, 8)))
+>>> effect(model_of(bow, (2, 2), whole, both, some), (0,), (1,))
+((3, 4), (1, 4), (1, 2), (1, 2))
+>>> [one[0] for one in papers(bow, (2, 2), whole, both, ((0,), (1,), (0, 1)))]
+[(1, 4), (3, 4)]
+"""
+DESK_SESSION = """
+>>> from causaleffects.certificates import certify_bounds, certify_between, certify_effect, certify_formula, certify_hedge, certify_identified, certify_models, certify_table
+>>> from causaleffects.checker import accepts
+>>> from causaleffects.desk import Desk
+>>> from causaleffects.identify import formula
+>>> bow, seen = (("x", "y"), ((0, 1),), ((0, 1),)), ((0, 1, 2),)
+>>> certify_identified(bow, ((0, 1),), (0,), (1,))[1]
+((1,), ((0, 1),))
+>>> [certify_hedge(bow, (0, 1), (1,))[0][0], certify_hedge(door, (0, 1, 2), (1,))]
+['hedge', (('no hedge', (('x', 'm', 'y'), ((0, 1), (1, 2)), ((0, 2),)), (1,), (0, 1, 2)), ((0, 1, 2), (1,)))]
+>>> [accepts(("hedge", bow, (1,), (0, 1), (0, 1)), ()), accepts(("no hedge", door, (2,), (0, 1, 2)), ((0, 1, 2), (0, 2), (2,))), accepts(("not identified", bow, ((0, 1),), (0,), (1,)), ((1,), ((0, 1),)))]
+[True, True, True]
+>>> [accepts(("identified", door, seen, (0,), (1,)), ((0, ((0, 1, 2), (1,))),)), accepts(("table", coin, (0,), ((1, 3), (2, 3))), ()), accepts(("table", coin, (), ((1, 1), (1, 1))), None)]
+[True, True, False]
+>>> desk = Desk()
+>>> [desk.say("told {x}"), desk.say("graph names x, m, y; arrows x -> m -> y; hidden {x, y};"), desk.say("needs {x} on {y}"), desk.say("effect {x} on {m}") == (show_formula(door, seen, formula(door, seen, (0,), (1,))),)]
+[('no graph',), ('3 variables, 2 arrows, 1 hidden lot',), ('{m}', '{y}'), True]
+>>> [desk.say("told {x}, {x, y}"), desk.say("effect {x} on {m}"), desk.say("least {x} on {m}"), desk.say("single {x} on {m}")]
+[('2 lots',), ('not identified: {m}',), ('none',), ('{x, m}', '{x, m, y}', '{m}', '{m, y}')]
+>>> [desk.say("told {m}, {y, y}"), desk.say("told {}"), desk.say("table {m}"), desk.say("parents y"), desk.say("effect {x} on {x}"), desk.say("effect")]
+[('bad text at 1 10',), ('not told {}',), ('no model',), ('{m}',), ('not asked so',), ('no such line',)]
+>>> [desk.say("model names x; sizes 2; table x: 1/3, 4/6;"), desk.say("table {x}"), desk.say("chances {} on {x}"), desk.say("bounds {} on {x}: 0")]
+[('1 variable',), ('1/3, 2/3',), ('1/3, 2/3',), ('no bounds',)]
+"""
 LISTED = {
     errors: ("CausalError", "InvalidGraph", "InvalidName", "InvalidLot", "InvalidSizes", "InvalidModel", "InvalidAsked",
              "InvalidFormula", "TooMany", "InvalidLine", "NotWithin", "InvalidDerivation", "InvalidWeights", "NotBetween",
@@ -88,6 +125,11 @@ LISTED = {
                "single_lots"),
     values: ("value_of", "told_effect"),
     twomodels: ("is_hedge", "modes", "two_models"),
+    bounds: ("types", "papers", "bounds", "between", "model_of"),
+    checker: ("accepts",),
+    certificates: ("certify_identified", "certify_models", "certify_hedge", "certify_formula", "certify_table", "certify_effect",
+                   "certify_bounds", "certify_between"),
+    desk: ("Desk",),
 }
 
 
@@ -132,10 +174,19 @@ class Examples(unittest.TestCase):
         with self.assertRaises(Identified):
             known["two_models"](known["bow"], ((0, 1), (1,)), (0,), (1,))
 
+    def test_bounds_checker_certificates_and_desk(self):
+        known = {}
+        for session in (TEXT_SESSION, TWOMODELS_SESSION, BOUNDS_SESSION, DESK_SESSION):
+            self.replay(session, known)
+        self.assertIn("desk", known)
+        self.assertEqual(known["desk"].told(), (known["coin"][0], ((0,),)))
+
     def test_names_stand_where_they_are_listed(self):
         for module, names in LISTED.items():
             for name in names:
                 self.assertEqual(getattr(module, name).__module__, module.__name__)
+        for name in ("say", "told"):
+            self.assertIn(name, vars(desk.Desk))
 
 
 if __name__ == "__main__":
