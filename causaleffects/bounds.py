@@ -74,7 +74,7 @@ def ends_of(graph, sizes, told, tables, question):
         tableau.aim(aims)
         tableau.lessen()
         weights = weights_of(program, unknowns(tableau), scale)
-        shares = shares_of(program, multipliers(tableau, equations, aims), sign * divisor)
+        shares = shares_of(program, multipliers(tableau, equations, aims), sign, divisor)
         found.append((chance_of(program, question, weights), weights, shares))
     return tuple(found)
 
@@ -107,17 +107,13 @@ def weights_of(program, chances, scale):
     return tuple(found)
 
 
-def shares_of(program, rows, scale):
-    """The SHARES, told a RATIO for each equation, times the scale, which may be below 0."""
-    sign = 1
-    if scale < 0:
-        sign = -1
-    left = [ratio(sign * one[0], sign * scale * one[1]) for one in rows]
-    first = left[0]
+def shares_of(program, rows, sign, divisor):
+    """The SHARES, told a RATIO for each equation, with this sign and times the divisor."""
+    left = [ratio(sign * one[0], divisor * one[1]) for one in rows]
     parts = []
     at = 1
     for part in program.parts:
-        count = len(program.known[part])
-        parts.append(tuple(left[at:at + count]))
-        at = at + count
-    return (first, tuple(parts))
+        until = at + len(program.known[part])
+        parts.append(tuple(left[at:until]))
+        at = until
+    return (left[0], tuple(parts))

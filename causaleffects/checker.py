@@ -2,7 +2,7 @@
 
 from causaleffects.derivations import formula_of_way, is_way
 from causaleffects.errors import CausalError
-from causaleffects.formulas import need_asked, need_formula
+from causaleffects.formulas import need_formula
 from causaleffects.graphs import is_lot, need_graph, need_lot
 from causaleffects.identify import need_question
 from causaleffects.lots import is_hedge_in, is_step, is_within, needed_districts
@@ -10,7 +10,7 @@ from causaleffects.modelforms import is_model, need_model, settings
 from causaleffects.models import effect, is_positive, table_of, worths
 from causaleffects.programs import need_bounded, program_of
 from causaleffects.ratios import is_ratio
-from causaleffects.rounds import need_joined, need_within
+from causaleffects.rounds import need_joined
 from causaleffects.values import formula_value, is_table
 from causaleffects.weights import (are_shares, are_weights, chance_of, have_tables, show_greatest, show_least,
                                    worth_of)
@@ -97,7 +97,6 @@ def show_no_hedge(things, paper):
     need_graph(graph)
     need_joined(graph, small)
     need_lot(graph, within)
-    need_within(small, within)
     if type(paper) is not tuple or len(paper) == 0 or not all([is_lot(len(graph[0]), lot) for lot in paper]):
         return False
     if paper[0] != within or paper[-1] != small:
@@ -138,8 +137,6 @@ def show_table(things, paper):
 def show_effect(things, paper):
     """Whether it is (), and the effect is that of the model."""
     model, deeds, asked, chances = things
-    need_model(model)
-    need_asked(model[0], deeds, asked)
     if type(chances) is not tuple or not all([is_ratio(one) for one in chances]):
         return False
     return is_nothing(paper) and effect(model, deeds, asked) == chances
@@ -164,7 +161,7 @@ def show_met(things, paper):
 
 def is_end(program, things, paper):
     """Whether it is a pair of weights that have the chance and shares that have it as their worth."""
-    if program is None or type(paper) is not tuple or len(paper) != 2:
+    if type(paper) is not tuple or len(paper) != 2:
         return False
     weights, shares = paper
     if not is_met(program, things, weights):

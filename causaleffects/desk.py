@@ -142,10 +142,9 @@ def take_lot_on_lot(desk, reader):
 
 
 def take_asked(desk, reader):
-    """Deeds and what is asked, behind which nothing stands, and which have to be such as can be asked."""
+    """Deeds and what is asked, behind which nothing stands."""
     deeds, asked = take_lot_on_lot(desk, reader)
     reader.finish()
-    need_asked(desk.graph, deeds, asked)
     return (deeds, asked)
 
 

@@ -138,14 +138,9 @@ def find_start(tableau):
     tableau.turn(ends.index(min(ends)), HELPER)
     tableau.aim([int(at == HELPER) for at in range(len(tableau.rows[0]) - 1)])
     tableau.lessen()
-    if HELPER in tableau.basis:
-        at = tableau.basis.index(HELPER)
-        row = tableau.rows[at]
-        if row[-1] > 0:
-            return False
-        tableau.turn(at, first_column([0, *row[1:]]))
+    # Where the helper comes to 0 with others it leaves as the first of them, so it stays above 0 or goes.
     tableau.rows = [[0, *row[1:]] for row in tableau.rows]
-    return True
+    return HELPER not in tableau.basis
 
 
 def unknowns(tableau):
@@ -157,5 +152,7 @@ def multipliers(tableau, equations, costs):
     """A RATIO for each equation, by which they add up to the costs of all unknowns of the basis."""
     turned = [[0, *[equations[at][column] for at in tableau.kept], costs[column]] for column in tableau.basis]
     found = unknowns(solved(turned))
-    rows = dict(zip(tableau.kept, range(1, len(tableau.kept) + 1)))
-    return [found.get(rows.get(at), (0, 1)) for at in range(len(equations))]
+    rows = {}
+    for place, number in enumerate(tableau.kept, start=1):
+        rows[number] = found.get(place, (0, 1))
+    return [rows.get(number, (0, 1)) for number in range(len(equations))]

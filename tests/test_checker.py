@@ -96,7 +96,7 @@ class Otherwise(unittest.TestCase):
                 self.assertIs(accepts(other, paper), False)
             for other in wrong_everywhere(paper):
                 self.assertIs(accepts(claim, other), False)
-        for one in WRONG + (("met",), ("",), ("no claim",), (("table",),), "table", ["table", COIN, (), ((1, 1), (1, 1))]):
+        for one in WRONG + ((), ("met",), ("",), ("no claim",), (("table",),), "table", ["table", COIN, (), ((1, 1), (1, 1))]):
             for other in WRONG + ((),):
                 self.assertIs(accepts(one, other), False)
         for deep in (nested(300), nested(300, list), Odd(), Loud()):
@@ -210,6 +210,12 @@ class TwoModels(unittest.TestCase):
         loose = ("not identified", BOW, ((0,),), (0,), (1,))
         self.assertIs(accepts(loose, (three, four)), False)
         self.assertIs(accepts(loose, (three, some_model(BOW, (2, 3), (2,), 5)[:3] + three[3:])), False)
+        # As many chances in one order, all alike.
+        fair = {size: ((1, size),) * size for size in (2, 3)}
+        flat = [(BOW, sizes, (((1, 1),),), ((fair[sizes[0]],), (fair[sizes[1]],) * sizes[0])) for sizes in ((2, 3), (3, 2))]
+        self.assertEqual(table(flat[0], (0, 1)), table(flat[1], (0, 1)))
+        self.assertNotEqual(effect(flat[0], (0,), (1,)), effect(flat[1], (0,), (1,)))
+        self.assertIs(accepts(claim, tuple(flat)), False)
         another = three[:3] + (three[3][:1] + some_model(BOW, (2, 3), (2,), 6)[3][1:],)
         self.assertIs(accepts(loose, (three, another)), True)
         for graph in ((("y", "x"), BOW[1], BOW[2]), (("x", "z"), BOW[1], BOW[2]), PLAIN, (("x", "y"), (), ((0, 1),))):

@@ -282,8 +282,9 @@ class Refused(unittest.TestCase):
             good = desk.say(line)
             self.assertFalse(good[0].startswith("bad text"), line)
             desk.say("told {x, y}")
-            for at in range(len(rest)):
-                for other in (rest[:at] + rest[at + 1:], rest[:at] + rest[at] + rest[at:], rest[:at] + source.choice("?;:|/*(){}-x0# ") + rest[at:]):
+            for at in range(len(rest) + 1):
+                put_in = [rest[:at] + sign + rest[at:] for sign in source.sample("?;:,|/*(){}-x0# ", 5)]
+                for other in [rest[:at] + rest[at + 1:], rest[:at] + rest[at:at + 1] + rest[at:]] + put_in:
                     before = desk.told()
                     found = desk.say(f"{order} {other}")
                     expected = read_by_hand(order, other, names)
@@ -294,6 +295,21 @@ class Refused(unittest.TestCase):
                         self.assertFalse(found[0].startswith("bad text"), other)
                     if order == "told":
                         desk.say("told {x, y}")
+
+    def test_what_stands_behind(self):
+        desk = Desk()
+        desk.say(BOW_LINE)
+        for line in ("told {x}", "effect {x} on {y}", "needs {x} on {y}", "least {} on {x}", "single {x} on {y}", "parents y",
+                     "children x", "ancestors {y}", "districts {x}", "table {y}", "chances {x} on {y}", "bounds {x} on {y}: 1, 1"):
+            rest = line.partition(" ")[2]
+            for more in ("x", "{x}", "on", "0", ";", ":", "?", "on {x}", ", "):
+                if line.startswith("told") and more == ", ":
+                    self.assertEqual(desk.say(line + more), (f"bad text at 1 {len(rest) + 3}",))
+                elif more == ", ":
+                    self.assertEqual(desk.say(line + " , "), (f"bad text at 1 {len(rest) + 2}",))
+                else:
+                    self.assertEqual(desk.say(f"{line} {more}"), (f"bad text at 1 {len(rest) + 2}",))
+            self.assertFalse(desk.say(line + " # all \n ")[0].startswith("bad text"))
 
     def test_what_is_no_text(self):
         desk = Desk()

@@ -74,6 +74,20 @@ class Simplex(unittest.TestCase):
         self.assertIsNone(self.least([[0, 1, 1, 5], [0, 1, 0, 6]], [0, 1, 1]))
         self.assertIsNone(self.least([[0, 1, 1, -1]], [0, 1, 1]))
 
+    def test_where_the_helper_comes_to_0_with_others(self):
+        # It has to be the one that goes then, or there would seem to be no unknowns from 0 on.
+        for equations in (
+                [[0, -1, 0, 2, -1, 4], [0, 2, 2, 1, 1, 2]],
+                [[0, 2, -1, 0, 2, 2, 4], [0, -1, 0, -1, 0, 1, 0], [0, 0, 1, 1, 1, 1, 1], [0, 1, 1, -1, -1, -1, 0]],
+                [[0, 2, 2, 0, 2, -1, 3], [0, -1, 0, 1, -1, 1, 1], [0, -1, 2, -1, 1, 0, 4], [0, -1, 1, 0, 1, 2, 4]]):
+            tableau = solved(equations)
+            self.assertLess(min(row[-1] for row in tableau.rows), 0)
+            self.assertIs(find_start(tableau), True)
+            self.assertNotIn(0, tableau.basis)
+            for row in equations:
+                self.assertEqual(sum(Fraction(*one) * row[at] for at, one in unknowns(tableau).items()), row[-1])
+            self.assertGreaterEqual(min(row[-1] for row in tableau.rows), 0)
+
     def test_equations_that_say_nothing_new_are_left_out(self):
         tableau = solved([[0, 1, 1, 0, 3], [0, 0, 1, 1, 2], [0, 1, 2, 1, 5], [0, 1, 0, 0, 1], [0, 0, 0, 0, 0]])
         self.assertEqual(tableau.kept, [0, 1, 3])

@@ -138,6 +138,27 @@ class ModelsByWeights(unittest.TestCase):
         self.check(model, graph, (2, 2, 2), ((0,),), tables, ((((1, 0), (1,)), (1, 1)),))
         self.check(model, graph, (2, 2, 2), ((0,),), tables, ((((0, 0), (0,)), (1, 3)), (((1, 1), (1,)), (2, 3))))
 
+    def test_weights_that_no_told_part_looks_at(self):
+        # Nothing of the hidden lot is told, so that it is the form of the weights alone that may be wrong.
+        graph = (("a", "x", "y"), ((0, 1),), ((1, 2),))
+        rows = (((1, 3),) * 4 + ((2, 3),) * 4,)
+        right = ((((0, 1), (0,)), (1, 3)), (((1, 1), (1,)), (2, 3)))
+        things = (graph, (2, 2, 2), ((0,),), rows)
+        self.assertEqual(len(model_of(*things, right)[2][0]), 2)
+        for weights in bends(right):
+            self.assertIs(refusal(InvalidWeights, model_of, *things, weights).given, weights)
+        last = right[1:]
+        for kind in ((), ((0, 1),), ((0, 1), (0,), ()), ((0, 1), (0,), (0,)), ((0,), (0,)), ((0, 1, 0), (0,)), ((), (0,)), ((0, 1), ()),
+                     ((0, 1), (0, 0)), ((0, 2), (0,)), ((0, -1), (0,)), ((0, 1), (2,)), ((0, 1), (-1,))):
+            weights = ((kind, (1, 3)),) + last
+            self.assertIs(refusal(InvalidWeights, model_of, *things, weights).given, weights)
+        for share in ((1, 4), (1, 2), (0, 1), (-1, 3), (2, 6), (1, 3, 1), (1,), ()):
+            weights = ((right[0][0], share),) + last
+            self.assertIs(refusal(InvalidWeights, model_of, *things, weights).given, weights)
+        for weights in ((), last, right[::-1], right + last, last + last, ((right[0][0], (1, 3)), (right[0][0], (2, 3))),
+                        right[:1] + ((right[1][0], (2, 3), ()),), right[:1] + ((right[1][0],),)):
+            self.assertIs(refusal(InvalidWeights, model_of, *things, weights).given, weights)
+
     def test_64_and_65_weights(self):
         graph = (EIGHT[:7], (), (tuple(range(7)),))
         every = types(graph, (2,) * 7)
